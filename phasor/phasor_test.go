@@ -102,7 +102,7 @@ func TestExamples(t *testing.T) {
 	}
 }
 
-// P3.1: what is a number, and what isn't.
+// P3.1, R1: what is a number, and what isn't.
 func TestFormed(t *testing.T) {
 	for _, z := range numbers() {
 		if !phasor.Formed(z) {
@@ -133,7 +133,7 @@ func TestTexts(t *testing.T) {
 	}
 }
 
-// P3.1: Print of what is no number.
+// P3.1, R1, R5: Print of what is no number.
 func TestPrintOfNoNumber(t *testing.T) {
 	for _, z := range noNumbers() {
 		if s, err := phasor.Print(z); s != "" || err != api.ErrArg {
@@ -142,7 +142,7 @@ func TestPrintOfNoNumber(t *testing.T) {
 	}
 }
 
-// P3.1: texts that are no number's.
+// P3.1, R1, R5: texts that are no number's, and answer nothing but the error.
 func TestParseOfNoText(t *testing.T) {
 	for _, s := range []string{
 		"", " ", "+", "-", "--", "+-", "i-", "ii", "-ii", "+i", "--i", "-+i", "i+1", "i1", "1i", "-1i", "0i", "-0i", "+2i", "01i", "02i",
@@ -302,7 +302,7 @@ func TestNoughtsHaveNoSign(t *testing.T) {
 	}
 }
 
-// P3.2, R6: what isn't a number is asked ahead of what is beyond bounds.
+// P3.2, R1, R5, R6: what isn't a number is asked ahead of what is beyond bounds.
 func TestAddAndMulOfNoNumbers(t *testing.T) {
 	for _, z := range noNumbers() {
 		for _, w := range []complex128{0, 1, -1i, most + most*1i, z, complex(nan, inf)} {
@@ -318,7 +318,7 @@ func TestAddAndMulOfNoNumbers(t *testing.T) {
 	}
 }
 
-// P3.2: Norm.
+// P3.2, R1: Norm.
 func TestNorm(t *testing.T) {
 	for z, want := range map[complex128]int64{
 		0: 0, 1: 1, -1: 1, 1i: 1, -1i: 1, 1 + 1i: 2, 3 + 4i: 25, -3 - 4i: 25, 5: 25, 1000: 1000000,
@@ -357,7 +357,7 @@ func TestCompare(t *testing.T) {
 	}
 }
 
-// P3.2: Compare of what isn't a number.
+// P3.2, R1: Compare of what isn't a number.
 func TestCompareOfNoNumbers(t *testing.T) {
 	for _, z := range noNumbers() {
 		for _, w := range []complex128{0, 1, -most, z, complex(inf, nan)} {
