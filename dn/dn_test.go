@@ -314,7 +314,7 @@ func nameTypes() []string {
 	return []string{"member", "aliasedObjectName", "MEMBER", "ALIASEDobjectNAME", "aliasedobjectname"}
 }
 
-// P6.1: Value of the types that are names', and P4.3, a normal form is its own.
+// P6.1: Value of the types that are names'.
 func TestValueOfNames(t *testing.T) {
 	for _, typ := range nameTypes() {
 		for _, c := range names()[1:] {
@@ -336,34 +336,95 @@ func TestValueOfNames(t *testing.T) {
 	}
 }
 
-// P6.1: a name that is a value has at most MaxValue bytes, and so has its
-// normal form, that being a value too (P4.3).
-func TestValueLimits(t *testing.T) {
-	grown := "cn=" + strings.Repeat("\xff", (api.MaxValue-len("cn=ab"))/3)
+// holdValue holds Value of all types that are names'; with no text wanted, it
+// has to answer ErrForm.
+func holdValue(t *testing.T, value, want string) {
+	t.Helper()
+	wantErr := api.OK
+	if want == "" {
+		wantErr = api.ErrForm
+	}
 	for _, typ := range nameTypes() {
-		for s, want := range map[string]string{
-			longName(api.MaxValue):                             longName(api.MaxValue),
-			longName(api.MaxValue + 1):                         "",
-			longName(api.MaxText):                              "",
-			"dc=x," + longName(api.MaxValue-5):                 "dc=x," + longName(api.MaxValue-5),
-			"dc=x," + longName(api.MaxValue-4):                 "",
-			"CN=a" + strings.Repeat(" ", api.MaxValue-5) + "b": "cn=a b",
-			"CN=a" + strings.Repeat(" ", api.MaxValue-4) + "b": "",
-			grown + "ab":  "cn=" + strings.Repeat(`\ff`, len(grown)-3) + "ab",
-			grown + "abc": "",
-			"cn=" + strings.Repeat("\xff", api.MaxValue-3): "",
-		} {
-			got, err := dn.Value(typ, s)
-			if got != want || (err == api.OK) != (want != "") || err != api.OK && err != api.ErrForm {
-				t.Errorf("Value(%q, %.60q): %.60q, %v; not %.60q", typ, s, got, err, want)
-			}
-			if want == "" {
-				continue
-			}
-			if again, err := dn.Value(typ, got); again != got || err != api.OK {
-				t.Errorf("Value(%q, %.60q): %.60q, %v", typ, got, again, err)
-			}
+		got, err := dn.Value(typ, value)
+		holdText(t, fmt.Sprintf("Value(%q, %.60q)", typ, value), got, err, want, wantErr)
+	}
+}
+
+// P6.1: a name that is a value has at most MaxValue bytes, however few its
+// normal text has.
+func TestValueLimits(t *testing.T) {
+	blanks := strings.Repeat(" ", api.MaxValue-len("CN=ab"))
+	coded := strings.Repeat(`\41`, (api.MaxValue-len("cn="))/3)
+	holdValue(t, longName(api.MaxValue), longName(api.MaxValue))
+	holdValue(t, longName(api.MaxValue+1), "")
+	holdValue(t, longName(api.MaxText), "")
+	holdValue(t, "dc=x,"+longName(api.MaxValue-5), "dc=x,"+longName(api.MaxValue-5))
+	holdValue(t, "dc=x,"+longName(api.MaxValue-4), "")
+	holdValue(t, "CN=a"+blanks+"b", "cn=a b")
+	holdValue(t, "CN=a "+blanks+"b", "")
+	holdValue(t, "cn="+coded+"BC", "cn="+strings.Repeat("a", len(coded)/3)+"bc")
+	holdValue(t, "cn="+coded+"BCD", "")
+}
+
+// P6.1: a value's normal form is its normal text, be that longer than values
+// are; the value alone has at most MaxValue bytes.
+func TestValueGrown(t *testing.T) {
+	most := api.MaxValue - len("cn=")
+	above := "," + deep(api.MaxRDNs-1)
+	for _, raw := range []string{"\x01", "\x1f", "\x7f", "\x80", "\xff"} {
+		code := fmt.Sprintf(`\%02x`, raw)
+		for _, size := range []int{1, 64, 65, 66, 100, most - 1, most} {
+			holdValue(t, "OU="+strings.Repeat(raw, size), "ou="+strings.Repeat(code, size))
 		}
+		for _, size := range []int{most + 1, most + 2, most + 3, most + 4} {
+			holdValue(t, "OU="+strings.Repeat(raw, size), "")
+		}
+		// The normal text has just MaxValue bytes, or one more.
+		for _, end := range []string{"zz", "zzz"} {
+			holdValue(t, "cn="+strings.Repeat(raw, 65)+end, "cn="+strings.Repeat(code, 65)+end)
+		}
+		// Of several pairs and parts.
+		size := most - len(above)
+		holdValue(t, "cn="+strings.Repeat(raw, size)+strings.ToUpper(above), "cn="+strings.Repeat(code, size)+above)
+		holdValue(t, "cn="+strings.Repeat(raw, size+1)+strings.ToUpper(above), "")
+		holdValue(t, "OU="+strings.Repeat(raw, 90)+"+cn=A,DC="+strings.Repeat(raw, 90), "cn=a+ou="+strings.Repeat(code, 90)+",dc="+strings.Repeat(code, 90))
+	}
+	// A normal form with more bytes than values have is no value itself.
+	holdValue(t, "cn="+strings.Repeat(`\ff`, 65), "cn="+strings.Repeat(`\ff`, 65))
+	holdValue(t, "cn="+strings.Repeat(`\ff`, 66), "")
+}
+
+// P6.1: many names of all lengths about MaxValue: a value's normal form is as
+// Normal tells.
+func TestValueMany(t *testing.T) {
+	r := rand.New(rand.NewSource(61))
+	pieces := []string{"\xff", "\x02", "\x7f", `\fe`, `\,`, `\41`, "A", "z", "b  C"}
+	grown, over := 0, 0
+	for range 3000 {
+		var parts []string
+		for range 1 + r.Intn(3) {
+			s := "CN=x"
+			for range r.Intn(85) {
+				s += pieces[r.Intn(len(pieces))]
+			}
+			parts = append(parts, s)
+		}
+		s := strings.Join(parts, ",")
+		want, err := dn.Normal(s)
+		if err != api.OK {
+			t.Fatalf("Normal(%q): %v", s, err)
+		}
+		if len(s) > api.MaxValue {
+			want = ""
+			over++
+		}
+		if len(want) > api.MaxValue {
+			grown++
+		}
+		holdValue(t, s, want)
+	}
+	if grown < 200 || over < 200 {
+		t.Errorf("just %d grown, %d too long", grown, over)
 	}
 }
 
