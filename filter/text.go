@@ -204,12 +204,12 @@ func readPieces(attr, text string) (Filter, bool) {
 }
 
 // readValue tells the value, or piece, that a text writes, and whether it
-// writes one: all that could be escaped has to be, and nothing else.
+// writes one.
 func readValue(text string) (string, bool) {
 	value := make([]byte, 0, len(text))
 	for rest := text; rest != ""; {
 		c, size := readByte(rest)
-		if size == 0 || needsEscape(c) != (rest[0] == escape) {
+		if size == 0 {
 			return "", false
 		}
 		value = append(value, c)
@@ -219,9 +219,13 @@ func readValue(text string) (string, bool) {
 }
 
 // readByte tells the byte that is written at a text's beginning, and how many
-// bytes write it; none, if nothing can begin so.
+// bytes write it; none, if nothing can begin so. Any byte may be escaped, also
+// one that needn't be.
 func readByte(text string) (byte, int) {
 	if text[0] != escape {
+		if needsEscape(text[0]) {
+			return 0, 0
+		}
 		return text[0], 1
 	}
 	if len(text) < 3 {

@@ -4,6 +4,7 @@ import (
 	"math/rand"
 	"regexp"
 	"slices"
+	"strconv"
 	"strings"
 	"testing"
 	"unsafe"
@@ -90,25 +91,68 @@ func TestBytes(t *testing.T) {
 		holdText(t, equal("cn", value), "(cn="+written+")")
 		holdText(t, near("cn", "a"+value), "(cn~=a"+written+")")
 		holdText(t, substrings("cn", value, value+"b", "c"+value, value), "(cn="+written+"*c"+written+"*"+written+"*"+written+"b)")
-		if written == value {
+		holdEscaped(t, byte(i))
+		if written == value || value == "*" {
 			continue
 		}
-		for _, s := range []string{"(cn=" + strings.ToUpper(written) + ")", "(cn=" + written[:2] + strings.ToUpper(written[2:]) + ")"} {
-			if got, err := filter.Parse(s); !filter.Same(got, equal("cn", value)) || err != api.OK {
-				t.Errorf("Parse(%q): %s, %v", s, show(got), err)
-			}
+		for _, s := range []string{"(cn=" + value + ")", "(cn=a" + value + "a)", "(cn>=" + value + ")", "(cn=a" + value + "a*)", "(cn=*" + value + ")"} {
+			holdNone(t, s, api.ErrForm)
 		}
-		for _, s := range []string{"(cn>=" + value + ")", "(cn=a" + value + "a*)"} {
-			if got, err := filter.Parse(s); i != '*' && err != api.ErrForm {
-				t.Errorf("Parse(%q): %s, %v", s, show(got), err)
+	}
+}
+
+// holdEscaped holds Parse to read a \ and two digits, in any case, for the
+// byte that they write, in values and in all pieces.
+func holdEscaped(t *testing.T, c byte) {
+	t.Helper()
+	const small, great = "0123456789abcdef", "0123456789ABCDEF"
+	value := string([]byte{c})
+	for _, high := range []string{small, great} {
+		for _, low := range []string{small, great} {
+			written := string([]byte{'\\', high[c/16], low[c%16]})
+			for s, want := range map[string]filter.Filter{
+				"(cn=" + written + ")":                                  equal("cn", value),
+				"(cn=a" + written + "9)":                                equal("cn", "a"+value+"9"),
+				"(cn<=" + written + written + ")":                       atMost("cn", value+value),
+				"(cn=" + written + "*b" + written + "*" + written + ")": substrings("cn", value, value, "b"+value),
+			} {
+				if got, err := filter.Parse(s); !filter.Same(got, want) || err != api.OK {
+					t.Errorf("Parse(%q): %s, %v", s, show(got), err)
+				}
 			}
 		}
 	}
 }
 
-// P7.1: what may be written as it is, is written so.
+// P7.1: what needn't be escaped is read escaped too, and printed plain.
 func TestEscapedPlain(t *testing.T) {
-	for _, s := range []string{`(cn=\61)`, `(cn=\41)`, `(cn=\20)`, `(cn=\7e)`, `(cn=\7E)`, `(cn=a\3d)`, `(cn=\2b)`, `(cn=\27)`, `(cn=\5b*)`, `(cn=*\5D)`, `(\63n=a)`} {
+	for s, text := range map[string]string{
+		`(member=cn\3da)`:            "(member=cn=a)",
+		`(cn=\61)`:                   "(cn=a)",
+		`(cn=\41\6E\6e)`:             "(cn=Ann)",
+		`(cn=\20\7E)`:                "(cn= ~)",
+		`(cn=a\3D)`:                  "(cn=a=)",
+		`(cn>=\3e\3c)`:               "(cn>=><)",
+		`(cn~=\2b\27)`:               "(cn~=+')",
+		`(cn=\5b*)`:                  "(cn=[*)",
+		`(cn=*\5D*\26)`:              "(cn=*]*&)",
+		`(cn=\5c61)`:                 `(cn=\5c61)`,
+		`(cn=\5C\36\31)`:             `(cn=\5c61)`,
+		`(cn=\2A)`:                   `(cn=\2a)`,
+		`(cn=\61*\2a*)`:              `(cn=a*\2a*)`,
+		`(&(ou=\78)(!(cn<=\FF\30)))`: `(&(ou=x)(!(cn<=\ff0)))`,
+	} {
+		f, err := filter.Parse(s)
+		got, errPrint := filter.Print(f)
+		if got != text || err != api.OK || errPrint != api.OK {
+			t.Errorf("Parse(%q): %s, %v; printed %q, %v", s, show(f), err, got, errPrint)
+		}
+	}
+}
+
+// P7.1: what isn't a value or a piece has nothing that is escaped.
+func TestEscapedOutside(t *testing.T) {
+	for _, s := range []string{`(\63n=a)`, `(c\6e=*)`, `(cn\3da)`, `(cn\3d=a)`, `(cn\3e=a)`, `\28cn=a)`, `(cn=a\29`, `(\26)`, `(\21(cn=a))`, `\28\26\29`} {
 		holdNone(t, s, api.ErrForm)
 	}
 }
@@ -150,6 +194,12 @@ func TestLongValues(t *testing.T) {
 	holdText(t, equal(strings.Repeat("b", 40), full), "("+strings.Repeat("b", 40)+"="+full+")")
 	holdText(t, atMost("cn", strings.Repeat("*", api.MaxValue)), "(cn<="+strings.Repeat(`\2a`, api.MaxValue)+")")
 	holdText(t, substrings("cn", full, full, full, full), "(cn="+full+"*"+full+"*"+full+"*"+full+")")
+	written := strings.Repeat(`\61`, api.MaxValue)
+	if f, err := filter.Parse("(cn=" + written + ")"); !filter.Same(f, equal("cn", full)) || err != api.OK {
+		t.Errorf("%s, %v", show(f), err)
+	}
+	holdNone(t, `(cn=\61`+written+")", api.ErrForm)
+	holdNone(t, `(cn=a*\61`+written+"*)", api.ErrForm)
 }
 
 // P7.1: texts of too many filters, or of such nested too deep, are none's.
@@ -221,7 +271,7 @@ func TestManyTexts(t *testing.T) {
 
 const (
 	// modelByte is what is written for a byte.
-	modelByte = `(?:[ -'+-\[\]-~]|\\(?:[01][0-9a-fA-F]|2[89aA]|5[cC]|7[fF]|[89a-fA-F][0-9a-fA-F]))`
+	modelByte = `(?:[ -'+-\[\]-~]|\\[0-9a-fA-F]{2})`
 	// modelSimple is the text of a filter without Parts.
 	modelSimple = `\([A-Za-z][A-Za-z0-9-]{0,39}(?:[<>~]?=B+|=B*\*(?:B+\*)*B*)\)`
 	// modelJoined is that of one with Parts, where a byte 1 stands for each of
@@ -244,10 +294,25 @@ func model() func(s string) bool {
 	}
 }
 
-var escapes = regexp.MustCompile(`\\..`)
+var (
+	escapes      = regexp.MustCompile(`\\..`)
+	plainEscapes = regexp.MustCompile(`\\(?:2[0-7b-f]|[346].|5[0-9abd-f]|7[0-9a-e])`)
+)
+
+// modelPrint is what a text's filter is printed as.
+func modelPrint(s string) string {
+	return escapes.ReplaceAllStringFunc(s, func(written string) string {
+		written = strings.ToLower(written)
+		return plainEscapes.ReplaceAllStringFunc(written, func(written string) string {
+			c, _ := strconv.ParseUint(written[1:], 16, 8)
+			return string([]byte{byte(c)})
+		})
+	})
+}
 
 // holdModel holds Parse of a short text to the model, and to Print: a text is
-// the one that is printed, but for the case of its digits.
+// the one that is printed, but for the case of its digits, and for what needn't
+// be escaped.
 func holdModel(t *testing.T, isText func(string) bool, s string) bool {
 	t.Helper()
 	f, err := filter.Parse(s)
@@ -258,7 +323,7 @@ func holdModel(t *testing.T, isText func(string) bool, s string) bool {
 		return false
 	}
 	text, errPrint := filter.Print(f)
-	if want := escapes.ReplaceAllStringFunc(s, strings.ToLower); text != want || err != api.OK || errPrint != api.OK {
+	if want := modelPrint(s); text != want || err != api.OK || errPrint != api.OK {
 		t.Errorf("Parse(%q): %s, %v; printed %q, %v", s, show(f), err, text, errPrint)
 	}
 	return true
@@ -280,7 +345,7 @@ func TestAllShort(t *testing.T) {
 		}
 	}
 	see("", "", []string{"(", ")", "&", "|", "!", "(cn=a)"}, 7)
-	see("(cn=", ")", []string{"*", "a", `\`, "2a", "5C", "\xff", " ", "(", "="}, 5)
+	see("(cn=", ")", []string{"*", "a", `\`, "2a", "5C", "4", "\xff", " ", "(", "="}, 5)
 	see("(", ")", []string{"cn", "-", "9", "=", ">", "~", "<", "*", "a", "&"}, 5)
 	if found < 10000 {
 		t.Errorf("just %d texts are filters'", found)
