@@ -6,6 +6,7 @@ import (
 	"verger/api"
 	"verger/dn"
 	"verger/rdn"
+	"verger/walk"
 )
 
 // root is the text of the root's name.
@@ -14,11 +15,10 @@ const root = ""
 // separator stands between the parts of a name's text.
 const separator = ','
 
-// spot is an entry with its name's normal text, and its path. By paths names
-// are ordered, and under one another; so a name is read just once.
+// spot is an entry with its name's path. By paths names are ordered, and under
+// one another; so a name is read just once.
 type spot struct {
 	entry api.Entry
-	name  string
 	path  []string
 }
 
@@ -29,7 +29,7 @@ func spotsOf(list []api.Entry) []spot {
 	for _, e := range list {
 		name, err := dn.Normal(e.Name)
 		if err == api.OK && name != root {
-			spots = append(spots, spot{entry: e, name: name, path: pathOf(name)})
+			spots = append(spots, spot{entry: e, path: pathOf(name)})
 		}
 	}
 	return spots
@@ -68,13 +68,10 @@ func Scope(list []api.Entry, name string, scope int) []api.Entry {
 	if err != api.OK {
 		return nil
 	}
-	above := pathOf(normal)
-	var inside []api.Entry
-	for _, s := range spotsOf(list) {
-		if s.in(above, scope) {
-			// Where nothing is asked for, all of an entry is answered.
-			inside = append(inside, Select(s.entry, Request{}))
-		}
+	inside, _ := ground{spots: spotsOf(list)}.Look(walk.Place{Name: normal, Scope: scope})
+	for i, e := range inside {
+		// Where nothing is asked for, all of an entry is answered.
+		inside[i] = Select(e, Request{})
 	}
 	return inside
 }
